@@ -1,0 +1,236 @@
+"""The interface as the document lists it, and the plainer ones of the rules of the language."""
+
+import ast
+import builtins
+import importlib
+import inspect
+import pathlib
+import re
+import unittest
+
+FOLDER = pathlib.Path(__file__).parent.parent / "partedmeet"
+# In the order in which they stand in the document: a module uses only those above it.
+INTERFACE = {
+    "errors": "",
+    "forms": "is_integer(thing) is_name(thing) is_fraction(thing) is_dealing(thing) is_standing(dealing,thing) "
+    "is_deed(thing) are_deeds(thing) is_lot(dealing,thing) reduced(num,den)",
+    "dealings": "parties_of(dealing) rounds_of(dealing) lot_of(dealing,name) words_of(dealing,name) "
+    "rounds_with(dealing,party) all_deeds(dealing) chooser_of(dealing,name) next_of(dealing,name,word,party) "
+    "nexts_of(dealing,name,word) wants(dealing,name,party) dealing_fault(parties,rounds) made_dealing(parties,rounds) "
+    "with_round(dealing,part) without_round(dealing,name) with_result(dealing,name,word,nexts) "
+    "without_result(dealing,name,word)",
+    "dealingtexts": "dealing_text(dealing) read_dealing(text)",
+    "standings": "first_standing(dealing) end_standing(dealing) done(dealing,standing,deed) place_of(standing,party) "
+    "open_rounds(dealing,standing) deeds_of(dealing,standing) can_be_done(dealing,standing,deed)",
+}
+LIBRARY = {"math": {"gcd", "lcm", "isqrt", "comb", "perm", "factorial"}, "heapq": {"heappush", "heappop", "heapify"}}
+BUILTINS = set(
+    "len range enumerate zip min max sum abs sorted reversed int str bool list tuple dict set isinstance ord repr any "
+    "all divmod ValueError KeyError".split()
+)
+METHODS = set(
+    "append clear copy count endswith extend find get index insert isalnum isalpha isdigit islower isspace isupper "
+    "items join keys ljust lower lstrip partition pop remove replace reverse rfind rjust rpartition rsplit rstrip "
+    "setdefault split splitlines startswith strip update upper values zfill add discard".split()
+)
+BARRED = set(
+    "type typing typing_extensions enum Enum IntEnum StrEnum Flag IntFlag Generic Protocol ABC ABCMeta namedtuple "
+    "NamedTuple TypedDict TYPE_CHECKING abstractmethod dataclass overload contextmanager register mro elements open "
+    "input law _wall _WallAttr".split()
+)
+CHANGING = {"append", "clear", "extend", "insert", "pop", "remove", "reverse", "setdefault", "update", "add", "discard"}
+STATEMENTS = (
+    ast.Assign, ast.AugAssign, ast.If, ast.While, ast.For, ast.Return, ast.Break, ast.Continue, ast.Pass, ast.Raise,
+    ast.Assert, ast.Delete, ast.Try, ast.Expr, ast.FunctionDef, ast.ClassDef, ast.ImportFrom,
+)
+
+
+def sources():
+    return {path.stem: path.read_text(encoding="utf-8") for path in sorted(FOLDER.glob("*.py"))}
+
+
+def bound_names(tree):
+    """all names that are bound anywhere in a file, with the node that binds each"""
+    found = []
+    for node in ast.walk(tree):
+        if isinstance(node, ast.Name) and isinstance(node.ctx, ast.Store):
+            found.append((node.id, node))
+        if isinstance(node, ast.arg):
+            found.append((node.arg, node))
+        if isinstance(node, (ast.FunctionDef, ast.ClassDef)):
+            found.append((node.name, node))
+        if isinstance(node, ast.alias):
+            found.append((node.name, node))
+    return found
+
+
+def is_set(node):
+    is_call = isinstance(node, ast.Call) and isinstance(node.func, ast.Name) and node.func.id == "set"
+    return is_call or isinstance(node, (ast.SetComp, ast.Set))
+
+
+class Interface(unittest.TestCase):
+    def test_names_and_arguments(self):
+        for name, listed in INTERFACE.items():
+            module = importlib.import_module("partedmeet." + name)
+            for signature in listed.split():
+                function, arguments = signature.rstrip(")").split("(")
+                found = getattr(module, function)
+                self.assertEqual(found.__module__, "partedmeet." + name)
+                self.assertEqual(",".join(inspect.signature(found).parameters), arguments, signature)
+
+    def test_files(self):
+        found = {path.name for path in FOLDER.iterdir() if path.name != "__pycache__"}
+        self.assertEqual(found, {name + ".py" for name in INTERFACE} | {"__init__.py"})
+        self.assertEqual((FOLDER / "__init__.py").read_bytes(), b"")
+
+
+class Language(unittest.TestCase):
+    def test_lines_and_sizes(self):
+        for name, text in sources().items():
+            self.assertLessEqual(len(text.splitlines()), 399, name)
+            for line in text.splitlines():
+                self.assertLessEqual(len(line), 120, name)
+                self.assertEqual([sign for sign in line if not " " <= sign <= "~"], [], name)
+            for node in ast.walk(ast.parse(text)):
+                if isinstance(node, ast.FunctionDef):
+                    self.assertLessEqual(node.end_lineno - node.lineno + 1, 40, node.name)
+
+    def test_imports(self):
+        order = list(INTERFACE)
+        for name, text in sources().items():
+            for node in ast.walk(ast.parse(text)):
+                self.assertNotIsInstance(node, ast.Import)
+                if isinstance(node, ast.ImportFrom):
+                    names = {alias.name for alias in node.names}
+                    self.assertEqual([alias.asname for alias in node.names], [None] * len(names))
+                    if node.module in LIBRARY:
+                        self.assertLessEqual(names, LIBRARY[node.module])
+                    else:
+                        package, module = node.module.split(".")
+                        self.assertEqual(package, "partedmeet")
+                        self.assertLess(order.index(module), order.index(name))
+                        tree = ast.parse(sources()[module])
+                        kinds = (ast.FunctionDef, ast.ClassDef)
+                        defined = {part.name for part in tree.body if isinstance(part, kinds)}
+                        self.assertLessEqual(names, defined, name)
+                        self.assertEqual([part for part in names if part.startswith("_")], [])
+
+    def test_imports_are_used(self):
+        for name, text in sources().items():
+            tree = ast.parse(text)
+            imported = {alias.name for node in tree.body if isinstance(node, ast.ImportFrom) for alias in node.names}
+            used = {node.id for node in ast.walk(tree) if isinstance(node, ast.Name)}
+            self.assertLessEqual(imported, used, name)
+
+    def test_own_functions_are_used(self):
+        used = set()
+        for text in sources().values():
+            used |= {node.id for node in ast.walk(ast.parse(text)) if isinstance(node, ast.Name)}
+        listed = {part.split("(")[0] for row in INTERFACE.values() for part in row.split()}
+        for name, text in sources().items():
+            for node in ast.parse(text).body:
+                if isinstance(node, ast.FunctionDef):
+                    self.assertIn(node.name, used | listed, name)
+
+    def test_module_level(self):
+        for name, text in sources().items():
+            for node in ast.parse(text).body:
+                if isinstance(node, ast.Assign):
+                    self.assertIsInstance(ast.literal_eval(node.value), (int, str, tuple))
+                elif isinstance(node, ast.Expr):
+                    self.assertIsInstance(node.value.value, str)
+                else:
+                    self.assertIsInstance(node, (ast.FunctionDef, ast.ClassDef, ast.ImportFrom), name)
+
+    def test_names(self):
+        barred = set(dir(builtins)) - {"_"} | {"sys", "os", "gc", "importlib", "methodcaller", "attrgetter"}
+        for name, text in sources().items():
+            tree = ast.parse(text)
+            outer = {part.name for node in tree.body if isinstance(node, ast.ImportFrom) for part in node.names}
+            outer |= {node.name for node in tree.body if isinstance(node, (ast.ClassDef, ast.FunctionDef))}
+            for bound, node in bound_names(tree):
+                self.assertNotIn(bound, barred | BARRED, name)
+                self.assertTrue(bound == "__init__" or not bound.startswith("__"), bound)
+                if isinstance(node, (ast.Name, ast.arg)):
+                    self.assertNotIn(bound, outer, name)
+            for node in ast.walk(tree):
+                if isinstance(node, ast.Name) and isinstance(node.ctx, ast.Load):
+                    self.assertNotEqual(node.id, "_")
+                    if hasattr(builtins, node.id):
+                        self.assertIn(node.id, BUILTINS, name)
+
+    def test_words(self):
+        for name, text in sources().items():
+            for node in ast.walk(ast.parse(text)):
+                if isinstance(node, ast.Constant):
+                    self.assertIsInstance(node.value, (int, str, type(None)), name)
+                    if isinstance(node.value, str):
+                        self.assertNotIn("%", node.value)
+            self.assertEqual(set(re.findall(r"\w+", text)) & (BARRED | {"chr", "global", "async", "eval"}), set(), name)
+
+    def test_statements_and_methods(self):
+        own = {"__init__"}
+        for name, text in sources().items():
+            for node in ast.walk(ast.parse(text)):
+                if isinstance(node, ast.stmt):
+                    self.assertIsInstance(node, STATEMENTS, name)
+                if isinstance(node, (ast.FunctionDef, ast.ClassDef)):
+                    self.assertEqual(node.decorator_list, [])
+                if isinstance(node, ast.Call) and isinstance(node.func, ast.Attribute):
+                    self.assertIn(node.func.attr, METHODS | own, name)
+                    self.assertEqual(node.keywords, [])
+                if isinstance(node, ast.Compare):
+                    for sign, other in zip(node.ops, node.comparators):
+                        if isinstance(sign, (ast.Is, ast.IsNot)):
+                            self.assertIsNone(other.value)
+                self.assertNotIsInstance(node, (ast.Div, ast.GeneratorExp, ast.Yield, ast.Lambda, ast.NamedExpr))
+
+    def test_sets_are_sorted_or_counted_at_once(self):
+        for name, text in sources().items():
+            tree = ast.parse(text)
+            at_once = []
+            for node in ast.walk(tree):
+                if isinstance(node, ast.Call) and isinstance(node.func, ast.Name) and node.func.id in ("sorted", "len"):
+                    at_once += node.args
+            for node in ast.walk(tree):
+                if is_set(node):
+                    self.assertIn(node, at_once, name)
+
+    def test_views_and_zips_are_iterated_at_once(self):
+        for name, text in sources().items():
+            tree = ast.parse(text)
+            at_once = []
+            for node in ast.walk(tree):
+                if isinstance(node, (ast.For, ast.comprehension)):
+                    at_once.append(node.iter)
+                if isinstance(node, ast.Call) and isinstance(node.func, ast.Name):
+                    if node.func.id in ("list", "tuple", "dict", "sorted", "sum", "min", "max", "enumerate", "zip"):
+                        at_once += node.args[:1]
+            for node in ast.walk(tree):
+                if isinstance(node, ast.Call):
+                    told = node.func.id if isinstance(node.func, ast.Name) else getattr(node.func, "attr", "")
+                    if told in ("zip", "enumerate", "range", "reversed", "items", "keys", "values"):
+                        self.assertIn(node, at_once, name)
+
+    def test_loops_leave_what_they_iterate_over(self):
+        for name, text in sources().items():
+            for loop in ast.walk(ast.parse(text)):
+                if isinstance(loop, ast.For):
+                    over = {node.id for node in ast.walk(loop.iter) if isinstance(node, ast.Name)}
+                    for part in loop.body:
+                        self.assertEqual(over & self.changed(part), set(), name)
+
+    def changed(self, tree):
+        """the names whose values a statement changes or that it binds anew"""
+        found = set()
+        for node in ast.walk(tree):
+            if isinstance(node, ast.Call) and isinstance(node.func, ast.Attribute) and node.func.attr in CHANGING:
+                found |= {part.id for part in ast.walk(node.func.value) if isinstance(part, ast.Name)}
+            if isinstance(node, (ast.Subscript, ast.Name)) and isinstance(node.ctx, (ast.Store, ast.Del)):
+                found |= {part.id for part in ast.walk(node) if isinstance(part, ast.Name)}
+        return found
+
+
+if __name__ == "__main__":
+    unittest.main()
