@@ -86,7 +86,7 @@ def _has_round_form(thing):
     if not _is_tuple_of(thing, 4) or not is_name(thing[0]) or not _are_names(thing[1]):
         return False
     _, lot, chooser, results = thing
-    if not is_name(chooser) or chooser not in lot or not isinstance(results, tuple):
+    if chooser not in lot or not isinstance(results, tuple):
         return False
     if not all([_has_result_form(lot, result) for result in results]):
         return False

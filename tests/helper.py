@@ -31,8 +31,13 @@ LOST = read_dealing(
     "parties a b\nround first a a b\nresult fall a pit b pit\nresult go a last b last\nround pit a a b\n"
     "result on a pit b pit\nround lone b a b\nresult go a last b last\nround last b a b"
 )
+# Each DATE is SINGLE, but x, y and z are a KNOT without a HEAD: behind `go` nothing is OPEN.
+THREE = read_dealing(
+    "parties a b c\nround first a a b c\nresult go a x b y c z\nround last a a b c\nround x a a b\nresult on a z b last\n"
+    "round y b b c\nresult on b x c last\nround z a a c\nresult on a last c y"
+)
 ALONE = read_dealing("parties p\nround first p p\nresult go p last\nround last p p")
-FIXED = (BOTH, SALE, PLAIN, CROSS, STUCK, LOST, ALONE)
+FIXED = (BOTH, SALE, PLAIN, CROSS, STUCK, LOST, THREE, ALONE)
 
 OTHER_KINDS = (None, True, False, 0, 1, -7, 10 ** 39, "", "a", "zz", "A", "\n", (), [], {}, ("a",), [("a", "b")])
 OTHER_KINDS = OTHER_KINDS + ({"a": ["a"]}, NoText(1, 2))
@@ -84,9 +89,39 @@ def some_dealing(seed):
     return made_dealing(parties, rounds)
 
 
+def grown_dealing(seed, is_bent):
+    """a SOUND DEALING: each step gives a round one more RESULT, or puts a round on a RESULT; bent, one next is another"""
+    dice = Dice(seed)
+    parties = ["a", "b", "c"][: 2 + dice.below(2)]
+    lots = {"first": parties, "last": parties}
+    results = {"first": {"k": {party: "last" for party in parties}}, "last": {}}
+    for name in ["r", "s", "t", "u"][: 1 + dice.below(4)]:
+        told_in = dice.pick([at for at in lots if at != "last"])
+        words = results[told_in]
+        nexts = words[dice.pick(sorted(words))]
+        lots[name] = dice.some(lots[told_in])
+        results[name] = {"k": {party: nexts[party] for party in lots[name]}}
+        nexts.update({party: name for party in lots[name]})
+        if dice.below(2):
+            results[name]["l"] = {party: name for party in lots[name]}
+        if dice.below(3) == 0:
+            results[name]["m"] = dict(results[name]["k"])
+    if is_bent:
+        nexts = dice.pick([nexts for words in results.values() for nexts in words.values()])
+        party = dice.pick(sorted(nexts))
+        nexts[party] = dice.pick([name for name in lots if party in lots[name]])
+    rounds = []
+    for name, lot in lots.items():
+        rounds.append((name, lot, dice.pick(lot), [(word, list(results[name][word].items())) for word in results[name]]))
+    return made_dealing(parties, rounds)
+
+
 def many_dealings(many):
     """fixed DEALINGS and small ones, SOUND and not"""
-    return list(FIXED) + [some_dealing(seed) for seed in range(many)]
+    found = list(FIXED)
+    for seed in range(many):
+        found.append(some_dealing(seed) if seed % 3 == 0 else grown_dealing(seed, seed % 3 == 1))
+    return found
 
 
 def variants(value):
@@ -164,3 +199,74 @@ def raised(case, error_class, function, *arguments):
     case.assertEqual(type(caught.exception), error_class)
     case.assertEqual(kinds_of(arguments), kinds_of(kept))
     return dict(vars(caught.exception))
+
+
+# Plain searches: they go through everything, by the words of [2], and use nothing of the package.
+
+
+def plain_lots(dealing):
+    return {name: lot for name, lot, _, _ in dealing[1]}
+
+
+def plain_nexts(dealing):
+    """the dict from (round, word) to the dict of the nexts"""
+    return {(name, word): dict(nexts) for name, _, _, results in dealing[1] for word, nexts in results}
+
+
+def plain_steps(dealing, party=None):
+    """the dict from rounds to the sets of their nexts, of one party's, if one is told"""
+    found = {name: set() for name, lot in plain_lots(dealing).items() if party is None or party in lot}
+    for (name, _), nexts in plain_nexts(dealing).items():
+        for one, there in nexts.items():
+            if party in (None, one):
+                found[name].add(there)
+    return found
+
+
+def plain_ways(steps, start):
+    """all rows of rounds from a start along steps that come to no round twice"""
+    rows = [(start,)]
+    for row in rows:
+        rows += [row + (there,) for there in sorted(steps[row[-1]]) if there not in row]
+    return rows
+
+
+def plain_length(steps, start, end):
+    """the least LENGTH from start to end, None if there is none: a shortest one comes to no round twice"""
+    return min([len(row) - 1 for row in plain_ways(steps, start) if row[-1] == end], default=None)
+
+
+def plain_led(dealing):
+    return sorted({row[-1] for row in plain_ways(plain_steps(dealing), "first")})
+
+
+def plain_meetings(dealing, start, one, other):
+    """(ahead, meetings) of one with other from a start on"""
+    lots = plain_lots(dealing)
+    rows = [row for row in plain_ways(plain_steps(dealing, one), start) if not any(other in lots[at] for at in row[:-1])]
+    ends = sorted({row[-1] for row in rows})
+    return tuple(at for at in ends if other not in lots[at]), tuple(at for at in ends if other in lots[at])
+
+
+def plain_deeds(dealing, standing):
+    """the list of the DEEDS that can be done, with the STANDINGS to which they lead"""
+    lots, places, found = plain_lots(dealing), dict(standing), []
+    for (name, word), nexts in sorted(plain_nexts(dealing).items()):
+        if all(places[party] == name for party in lots[name]):
+            found.append(((name, word), tuple(sorted({**places, **nexts}.items()))))
+    return found
+
+
+def plain_met(dealing, start=None):
+    """the list of all STANDINGS to which RUNS lead from a start, the FIRST STANDING if none is told"""
+    found = [start or tuple((party, "first") for party in dealing[0])]
+    for standing in found:
+        for _, behind in plain_deeds(dealing, standing):
+            if behind not in found:
+                found.append(behind)
+    return found
+
+
+def plain_is_sound(dealing):
+    end = tuple((party, "last") for party in dealing[0])
+    return all(end in plain_met(dealing, standing) for standing in plain_met(dealing))

@@ -215,6 +215,24 @@ class Forms(unittest.TestCase):
             self.assertFalse(plain_is_dealing(changed))
             self.check(False, is_dealing, changed)
 
+    def test_faults_that_no_other_one_comes_with(self):
+        both = ("a", "b")
+        stay = ("first", both, "a", (("go", (("a", "first"), ("b", "first"))),))
+        end = ("last", both, "a", ())
+        self.check(True, is_dealing, (both, (stay, end)))
+        guest = ("x", ("a", "guest"), "a", (("on", (("a", "last"), ("guest", "x"))),))
+        for rounds in (
+            (stay, end, guest),
+            (stay,),
+            (stay, ("last", ("a",), "a", ())),
+            (end, ("x", both, "a", (("on", (("a", "x"), ("b", "last"))),))),
+            (("first", ("b",), "b", (("go", (("b", "last"),)),)), end),
+            (stay, end, ("x", ("a",), "b", (("on", (("a", "last"),)),))),
+            (stay, end, ("x", ("a",), "guest", (("on", (("a", "last"),)),))),
+        ):
+            self.assertFalse(plain_is_dealing((both, rounds)))
+            self.check(False, is_dealing, (both, rounds))
+
 
 if __name__ == "__main__":
     unittest.main()

@@ -22,6 +22,18 @@ INTERFACE = {
     "dealingtexts": "dealing_text(dealing) read_dealing(text)",
     "standings": "first_standing(dealing) end_standing(dealing) done(dealing,standing,deed) place_of(standing,party) "
     "open_rounds(dealing,standing) deeds_of(dealing,standing) can_be_done(dealing,standing,deed)",
+    "runs": "run(dealing,standing,deeds) traced(dealing,standing,deeds) is_run(dealing,standing,thing) "
+    "are_apart(dealing,one,other) same_rope(dealing,one,other) met(dealing) part_of(dealing,deeds,party) "
+    "least_rope(dealing,deeds) met_runs(dealing) depth_of(dealing,deeds)",
+    "ways": "distance(dealing,name) distances(dealing) is_road(dealing,party,thing) is_way(dealing,thing) led(dealing) "
+    "road_length(dealing,party,name) road_rounds(dealing,party,name) shortest_road(dealing,party,name,other) "
+    "shortest_way(dealing,one,other) steps(dealing,name)",
+    "homeward": "choices(dealing) home_deeds(dealing,standing) home_run(dealing)",
+    "dates": "ahead(dealing,name,word,one,other) are_meetings(dealing,name,word,one,other,thing) "
+    "date(dealing,name,word,one,other) date_fault(dealing) dates(dealing) is_single(dealing,name,word,one,other) "
+    "meetings(dealing,name,word,one,other) road_to_meeting(dealing,name,word,one,other,meeting)",
+    "knots": "circle_through(dealing,knot) head_of(dealing,lot) heads_of(dealing,circle) is_circle(dealing,thing) "
+    "knots(dealing,lot)",
 }
 LIBRARY = {"math": {"gcd", "lcm", "isqrt", "comb", "perm", "factorial"}, "heapq": {"heappush", "heappop", "heapify"}}
 BUILTINS = set(

@@ -1,0 +1,94 @@
+"""MEETINGS and DATES: where those who part in a round meet next."""
+
+from partedmeet.dealings import all_deeds, next_of, nexts_of, rounds_with
+from partedmeet.ways import led, reached, road_table, shortest_in
+
+
+def meetings(dealing, name, word, one, other):
+    """returns the ascending tuple of the MEETINGS of one with other behind a RESULT"""
+    return _ahead_and_meetings(dealing, name, word, one, other)[1]
+
+
+def ahead(dealing, name, word, one, other):
+    """returns the ascending tuple of the rounds through which one may be led ahead of the MEETINGS"""
+    return _ahead_and_meetings(dealing, name, word, one, other)[0]
+
+
+def road_to_meeting(dealing, name, word, one, other, meeting):
+    """returns a shortest ROAD of one from its next to a meeting, of which no earlier round wants other"""
+    return shortest_in(_cut_roads(dealing, one, other), next_of(dealing, name, word, one), meeting)
+
+
+def are_meetings(dealing, name, word, one, other, thing):
+    """tells whether any value is the tuple (ahead, meetings) of both"""
+    return thing == _ahead_and_meetings(dealing, name, word, one, other)
+
+
+def is_single(dealing, name, word, one, other):
+    """tells whether the DATE is SINGLE"""
+    return date(dealing, name, word, one, other) is not None
+
+
+def date(dealing, name, word, one, other):
+    """returns the round of a SINGLE DATE, None if it is not SINGLE"""
+    return _common(meetings(dealing, name, word, one, other), meetings(dealing, name, word, other, one))
+
+
+def dates(dealing):
+    """returns the dict from each (round, word, one, other), of LED rounds, to what date returns"""
+    names = led(dealing)
+    met = _meetings_table(dealing)
+    found = {}
+    for name, word in all_deeds(dealing):
+        places = nexts_of(dealing, name, word)
+        for one, other in _couples(places):
+            if name in names and one < other:
+                there = _common(met[(one, other, places[one])], met[(other, one, places[other])])
+                found[(name, word, one, other)] = there
+    return found
+
+
+def date_fault(dealing):
+    """returns the least (round, word, one, other) whose DATE is not SINGLE, None if there is none"""
+    found = dates(dealing)
+    return min([key for key in found if found[key] is None], default=None)
+
+
+def _cut_roads(dealing, one, other):
+    """returns the road table of one, in which no round that wants other leads on"""
+    roads = road_table(dealing, one)
+    shared = rounds_with(dealing, other)
+    return {name: () if name in shared else roads[name] for name in roads}
+
+
+def _ahead_and_meetings(dealing, name, word, one, other):
+    roads = _cut_roads(dealing, one, other)
+    return _parted(roads, rounds_with(dealing, other), next_of(dealing, name, word, one))
+
+
+def _parted(roads, shared, start):
+    """returns the tuple of the rounds to which cut roads lead that are not shared, and of those that are"""
+    names = reached(roads, (start,))
+    between = tuple([there for there in names if there not in shared])
+    return (between, tuple([there for there in names if there in shared]))
+
+
+def _meetings_table(dealing):
+    """returns the dict from each (one, other, round), the round wanting one, to the MEETINGS from there on"""
+    found = {}
+    for one, other in _couples(dealing[0]):
+        roads = _cut_roads(dealing, one, other)
+        shared = rounds_with(dealing, other)
+        for start in roads:
+            found[(one, other, start)] = _parted(roads, shared, start)[1]
+    return found
+
+
+def _couples(parties):
+    """returns the ascending list of all (one, other) of unlike ones of ascending parties"""
+    return [(one, other) for one in parties for other in parties if one != other]
+
+
+def _common(some, others):
+    """returns the round, if some and others are one and the same single round, otherwise None"""
+    return some[0] if len(some) == 1 and some == others else None
