@@ -36,22 +36,30 @@ def date(dealing, name, word, one, other):
 
 def dates(dealing):
     """returns the dict from each (round, word, one, other), of LED rounds, to what date returns"""
-    names = led(dealing)
-    met = _meetings_table(dealing)
-    found = {}
-    for name, word in all_deeds(dealing):
-        places = nexts_of(dealing, name, word)
-        for one, other in _couples(places):
-            if name in names and one < other:
-                there = _common(met[(one, other, places[one])], met[(other, one, places[other])])
-                found[(name, word, one, other)] = there
-    return found
+    return {key: _common(side[1], facing[1]) for key, side, facing in partings(dealing)}
 
 
 def date_fault(dealing):
     """returns the least (round, word, one, other) whose DATE is not SINGLE, None if there is none"""
     found = dates(dealing)
     return min([key for key in found if found[key] is None], default=None)
+
+
+def partings(dealing):
+    """returns the list of all ((round, word, one, other), (ahead, meetings), (ahead, meetings)), ascending
+
+    Of LED rounds, with one less than other; the (ahead, meetings) are those of one with other, and of other with one.
+    """
+    names = led(dealing)
+    table = _parted_table(dealing)
+    found = []
+    for name, word in all_deeds(dealing):
+        places = nexts_of(dealing, name, word) if name in names else {}
+        for one, other in _couples(places):
+            if one < other:
+                sides = (table[(one, other, places[one])], table[(other, one, places[other])])
+                found.append(((name, word, one, other), *sides))
+    return found
 
 
 def _cut_roads(dealing, one, other):
@@ -73,14 +81,14 @@ def _parted(roads, shared, start):
     return (between, tuple([there for there in names if there in shared]))
 
 
-def _meetings_table(dealing):
-    """returns the dict from each (one, other, round), the round wanting one, to the MEETINGS from there on"""
+def _parted_table(dealing):
+    """returns the dict from each (one, other, round), the round wanting one, to the (ahead, meetings) from there on"""
     found = {}
     for one, other in _couples(dealing[0]):
         roads = _cut_roads(dealing, one, other)
         shared = rounds_with(dealing, other)
         for start in roads:
-            found[(one, other, start)] = _parted(roads, shared, start)[1]
+            found[(one, other, start)] = _parted(roads, shared, start)
     return found
 
 

@@ -15,22 +15,22 @@ def rounds_of(dealing):
 
 def lot_of(dealing, name):
     """returns the lot of a round"""
-    return _part_of(dealing, name)[1]
+    return round_of(dealing, name)[1]
 
 
 def chooser_of(dealing, name):
     """returns the chooser of a round"""
-    return _part_of(dealing, name)[2]
+    return round_of(dealing, name)[2]
 
 
 def words_of(dealing, name):
     """returns the ascending tuple of the words of the RESULTS of a round"""
-    return tuple([result[0] for result in _part_of(dealing, name)[3]])
+    return tuple([result[0] for result in round_of(dealing, name)[3]])
 
 
 def nexts_of(dealing, name, word):
     """returns the dict from the parties of the lot to their nexts by the RESULT of this word"""
-    nexts = [result[1] for result in _part_of(dealing, name)[3] if result[0] == word]
+    nexts = [result[1] for result in round_of(dealing, name)[3] if result[0] == word]
     return dict(nexts[0])
 
 
@@ -86,14 +86,14 @@ def with_round(dealing, part):
 
 def without_round(dealing, name):
     """returns the DEALING without this round"""
-    if _part_of(dealing, name) is None:
+    if round_of(dealing, name) is None:
         raise NoRound(name)
     return made_dealing(dealing[0], _parts_but(dealing, name))
 
 
 def with_result(dealing, name, word, nexts):
     """returns the DEALING with this RESULT in the place of that of its word, or beside all others"""
-    part = _part_of(dealing, name)
+    part = round_of(dealing, name)
     if part is None:
         raise NoRound(name)
     results = _results_but(part, word) + [(word, list(nexts.items()))]
@@ -102,7 +102,7 @@ def with_result(dealing, name, word, nexts):
 
 def without_result(dealing, name, word):
     """returns the DEALING without this RESULT"""
-    part = _part_of(dealing, name)
+    part = round_of(dealing, name)
     if part is None:
         raise NoRound(name)
     results = _results_but(part, word)
@@ -111,12 +111,25 @@ def without_result(dealing, name, word):
     return with_round(dealing, (name, part[1], part[2], results))
 
 
-def _part_of(dealing, name):
+def round_of(dealing, name):
     """returns the ROUND of this name, None if there is none"""
     for part in dealing[1]:
         if part[0] == name:
             return part
     return None
+
+
+def results_of(dealing, name):
+    """returns the dict from the words of a round's RESULTS to their nexts, {} if there is no such round"""
+    part = round_of(dealing, name)
+    return {} if part is None else dict(part[3])
+
+
+def with_results(dealing, name, results):
+    """returns the DEALING in which a round has just these RESULTS, right ones in any order"""
+    # made_dealing would look for all faults: too slow for rows of many small changes.
+    parts = [part if part[0] != name else part[:3] + (tuple(sorted(results)),) for part in dealing[1]]
+    return (dealing[0], tuple(parts))
 
 
 def _parts_but(dealing, name):

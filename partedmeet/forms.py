@@ -42,9 +42,16 @@ def are_deeds(thing):
     return isinstance(thing, tuple) and all([is_deed(part) for part in thing])
 
 
+def are_names(thing):
+    """tells whether any value is an ascending tuple of NAMES, at least one"""
+    if not isinstance(thing, tuple) or not thing:
+        return False
+    return all([is_name(part) for part in thing]) and _ascend(thing)
+
+
 def is_lot(dealing, thing):
     """tells whether any value is an ascending tuple of parties of the DEALING, at least one"""
-    return _are_names(thing) and all([party in dealing[0] for party in thing])
+    return are_names(thing) and all([party in dealing[0] for party in thing])
 
 
 def is_standing(dealing, thing):
@@ -57,7 +64,7 @@ def is_standing(dealing, thing):
 
 def is_dealing(thing):
     """tells whether any value is a DEALING"""
-    if not _is_tuple_of(thing, 2) or not _are_names(thing[0]) or not isinstance(thing[1], tuple):
+    if not _is_tuple_of(thing, 2) or not are_names(thing[0]) or not isinstance(thing[1], tuple):
         return False
     parties, rounds = thing
     if not all([_has_round_form(part) for part in rounds]):
@@ -75,15 +82,9 @@ def _ascend(names):
     return all([one < other for one, other in zip(names, names[1:])])
 
 
-def _are_names(thing):
-    if not isinstance(thing, tuple) or not thing:
-        return False
-    return all([is_name(part) for part in thing]) and _ascend(thing)
-
-
 def _has_round_form(thing):
     """tells whether any value is a ROUND, if its parties and nexts are those of the DEALING"""
-    if not _is_tuple_of(thing, 4) or not is_name(thing[0]) or not _are_names(thing[1]):
+    if not _is_tuple_of(thing, 4) or not is_name(thing[0]) or not are_names(thing[1]):
         return False
     _, lot, chooser, results = thing
     if chooser not in lot or not isinstance(results, tuple):

@@ -19,12 +19,11 @@ def home_deeds(dealing, standing):
     chosen = choices(dealing)
     found = []
     here = standing
-    ready = _ready(dealing, here, chosen)
-    while ready:
-        deed = (ready[0], chosen[ready[0]][0])
+    deed = home_deed(dealing, here, chosen)
+    while deed is not None:
         found.append(deed)
         here = done(dealing, here, deed)
-        ready = _ready(dealing, here, chosen)
+        deed = home_deed(dealing, here, chosen)
     return tuple(found)
 
 
@@ -33,11 +32,13 @@ def home_run(dealing):
     return home_deeds(dealing, first_standing(dealing))
 
 
+def home_deed(dealing, standing, chosen):
+    """returns the DEED homeward of the least OPEN round that has a choice, None if there is none"""
+    ready = [name for name in open_rounds(dealing, standing) if name in chosen]
+    return (ready[0], chosen[ready[0]][0]) if ready else None
+
+
 def _choice(lengths, part):
     """returns the least (word, party) of a ROUND such that the party's next is nearer by 1"""
     nearer = lengths[part[0]] - 1
     return min([(word, party) for word, nexts in part[3] for party, there in nexts if lengths[there] == nearer])
-
-
-def _ready(dealing, standing, chosen):
-    return [name for name in open_rounds(dealing, standing) if name in chosen]

@@ -28,12 +28,12 @@ def is_run(dealing, standing, thing):
 
 def met(dealing):
     """returns the ascending tuple of all MET STANDINGS"""
-    return tuple(sorted(_runs_to_met(dealing)))
+    return tuple(sorted([standing for standing, _ in runs_to_met(dealing)]))
 
 
 def met_runs(dealing):
     """returns the dict from each MET STANDING to the least of the shortest RUNS to it"""
-    runs = _runs_to_met(dealing)
+    runs = dict(runs_to_met(dealing))
     return {standing: runs[standing] for standing in sorted(runs)}
 
 
@@ -78,6 +78,31 @@ def depth_of(dealing, deeds):
     return max(depths.values())
 
 
+def runs_to_met(dealing):
+    """tells the (standing, run) of all MET STANDINGS, of the shortest RUNS the least, those with fewer DEEDS first"""
+    start = first_standing(dealing)
+    runs = {start: ()}
+    yield (start, ())
+    edge = [start]
+    while edge:
+        later = []
+        for standing in edge:
+            # Each row of RUNS is gone on with in ascending order: so the first RUN to a STANDING is the least one.
+            for deed, behind in steps_on(dealing, standing).items():
+                if behind not in runs:
+                    if len(runs) == MOST_MET:
+                        raise TooMany(MOST_MET)
+                    runs[behind] = runs[standing] + (deed,)
+                    later.append(behind)
+                    yield (behind, runs[behind])
+        edge = later
+
+
+def met_steps(dealing):
+    """returns the dict from all MET STANDINGS, those met by fewer DEEDS first, to what steps_on returns"""
+    return {standing: steps_on(dealing, standing) for standing, _ in runs_to_met(dealing)}
+
+
 def _as_far_as_done(dealing, standing, deeds):
     """returns the list of the STANDINGS on the way, up to where the first DEED can't be done"""
     found = [standing]
@@ -86,25 +111,6 @@ def _as_far_as_done(dealing, standing, deeds):
             return found
         found.append(done(dealing, found[-1], deed))
     return found
-
-
-def _runs_to_met(dealing):
-    """returns the dict from all MET STANDINGS to RUNS, those with fewer DEEDS first, the lesser ones first"""
-    start = first_standing(dealing)
-    runs = {start: ()}
-    edge = [start]
-    while edge:
-        later = []
-        for standing in edge:
-            # Each row of RUNS is gone on with in ascending order: so the first RUN to a STANDING is the least one.
-            for deed, behind in steps_on(dealing, standing).items():
-                if behind not in runs:
-                    runs[behind] = runs[standing] + (deed,)
-                    later.append(behind)
-                    if len(runs) > MOST_MET:
-                        raise TooMany(MOST_MET)
-        edge = later
-    return runs
 
 
 def _is_head_of_all(dealing, left, deed):

@@ -93,9 +93,13 @@ def grown_dealing(seed, is_bent):
     """a SOUND DEALING: each step gives a round one more RESULT, or puts a round on a RESULT; bent, one next is another"""
     dice = Dice(seed)
     parties = ["a", "b", "c"][: 2 + dice.below(2)]
+    return grown_from(dice, parties, ["r", "s", "t", "u"][: 1 + dice.below(4)], is_bent)
+
+
+def grown_from(dice, parties, names, is_bent):
     lots = {"first": parties, "last": parties}
     results = {"first": {"k": {party: "last" for party in parties}}, "last": {}}
-    for name in ["r", "s", "t", "u"][: 1 + dice.below(4)]:
+    for name in names:
         told_in = dice.pick([at for at in lots if at != "last"])
         words = results[told_in]
         nexts = words[dice.pick(sorted(words))]

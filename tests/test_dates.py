@@ -28,6 +28,7 @@ from tests.helper import (
     told,
     variants,
 )
+from tests.plain import plain_date
 
 # Behind `go` a goes through u and v, in turn, to meet b at x or at `last`.
 TURNS = read_dealing(
@@ -43,13 +44,6 @@ def all_cases(dealing):
             for other in nexts:
                 if one != other:
                     yield name, word, one, other
-
-
-def plain_date(dealing, name, word, one, other):
-    nexts = plain_nexts(dealing)[(name, word)]
-    some = plain_meetings(dealing, nexts[one], one, other)[1]
-    others = plain_meetings(dealing, nexts[other], other, one)[1]
-    return some[0] if len(some) == 1 and some == others else None
 
 
 class Meetings(unittest.TestCase):

@@ -1,6 +1,5 @@
 """[20], and what [10] says of it: homeward."""
 
-import itertools
 import unittest
 
 from partedmeet.homeward import choices, home_deeds, home_run
@@ -16,12 +15,12 @@ from tests.helper import (
     plain_is_sound,
     plain_led,
     plain_length,
-    plain_lots,
     plain_met,
     plain_nexts,
     plain_steps,
     told,
 )
+from tests.plain import all_standings
 
 
 def plain_choices(dealing):
@@ -37,11 +36,6 @@ def plain_choices(dealing):
                 if at == name and plain_length(table, there, "last") == length - 1
             )
     return found
-
-
-def all_standings(dealing):
-    lots = plain_lots(dealing)
-    return itertools.product(*[[(party, name) for name in lots if party in lots[name]] for party in dealing[0]])
 
 
 class Homeward(unittest.TestCase):

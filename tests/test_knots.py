@@ -21,40 +21,13 @@ from tests.helper import (
     told,
     variants,
 )
+from tests.plain import all_lots, plain_heads, plain_knots
 
 # x, y and z are one KNOT: x and y tell each other, y and z too. Without y there is none.
 EIGHT = read_dealing(
     "parties a b\nround first a a b\nresult go a x b last\nround x a a\nresult on a y\nround y a a\nresult back a x\n"
     "result on a z\nresult out a last\nround z a a\nresult back a y\nround last a a b"
 )
-
-
-def plain_are_tied(table, names):
-    """whether WAYS of a LENGTH from 1 on within names lead from each to each, itself too"""
-    for start in names:
-        ends = [there for there in table[start] if there in names]
-        for end in ends:
-            ends += [there for there in table[end] if there in names and there not in ends]
-        if not set(names) <= set(ends):
-            return False
-    return True
-
-
-def plain_knots(table, lot):
-    sets = [names for many in range(1, len(lot) + 1) for names in itertools.combinations(lot, many)]
-    tied = [names for names in sets if plain_are_tied(table, names)]
-    return tuple(sorted(names for names in tied if not any(set(names) < set(other) for other in tied)))
-
-
-def plain_heads(dealing, names):
-    lots = plain_lots(dealing)
-    wanted = {party for name in names for party in lots[name]}
-    return tuple(sorted({name for name in names if set(lots[name]) == wanted}))
-
-
-def all_lots(dealing):
-    names = sorted(plain_lots(dealing))
-    return [lot for many in range(len(names) + 1) for lot in itertools.combinations(names, many)]
 
 
 class Knots(unittest.TestCase):

@@ -34,6 +34,13 @@ INTERFACE = {
     "meetings(dealing,name,word,one,other) road_to_meeting(dealing,name,word,one,other,meeting)",
     "knots": "circle_through(dealing,knot) head_of(dealing,lot) heads_of(dealing,circle) is_circle(dealing,thing) "
     "knots(dealing,lot)",
+    "headtrees": "head_tree(dealing) headless(dealing) is_head_tree(dealing,thing) tree_of(dealing,lot)",
+    "sound": "fault(dealing) is_sound(dealing) is_sound_slowly(dealing)",
+    "certificates": "certificate(dealing) flaw(dealing,standing) is_certificate(dealing,thing) "
+    "is_ring(dealing,standing,thing) led_to(dealing,way) ring(dealing,standing) wall(dealing,standing,party) "
+    "walled(dealing,standing,party,thing)",
+    "rules": "is_rule(dealing,thing) is_bare(dealing) rules_of(dealing) applied(dealing,rule)",
+    "rulerows": "applied_row(dealing,row) is_rule_row(dealing,thing) rule_row(dealing)",
 }
 LIBRARY = {"math": {"gcd", "lcm", "isqrt", "comb", "perm", "factorial"}, "heapq": {"heappush", "heappop", "heapify"}}
 BUILTINS = set(
@@ -196,7 +203,7 @@ class Language(unittest.TestCase):
                     for sign, other in zip(node.ops, node.comparators):
                         if isinstance(sign, (ast.Is, ast.IsNot)):
                             self.assertIsNone(other.value)
-                self.assertNotIsInstance(node, (ast.Div, ast.GeneratorExp, ast.Yield, ast.Lambda, ast.NamedExpr))
+                self.assertNotIsInstance(node, (ast.Div, ast.GeneratorExp, ast.YieldFrom, ast.Lambda, ast.NamedExpr))
 
     def test_sets_are_sorted_or_counted_at_once(self):
         for name, text in sources().items():
@@ -207,6 +214,24 @@ class Language(unittest.TestCase):
                     at_once += node.args
             for node in ast.walk(tree):
                 if is_set(node):
+                    self.assertIn(node, at_once, name)
+
+    def test_generators_are_iterated_at_once(self):
+        trees = {name: ast.parse(text) for name, text in sources().items()}
+        generators = set()
+        for tree in trees.values():
+            for node in tree.body:
+                if isinstance(node, ast.FunctionDef) and [part for part in ast.walk(node) if isinstance(part, ast.Yield)]:
+                    generators.add(node.name)
+        for name, tree in trees.items():
+            at_once = []
+            for node in ast.walk(tree):
+                if isinstance(node, (ast.For, ast.comprehension)) and isinstance(node.iter, ast.Call):
+                    at_once.append(node.iter.func)
+                if isinstance(node, ast.Call) and isinstance(node.func, ast.Name) and node.func.id in ("list", "tuple", "dict"):
+                    at_once += [part.func for part in node.args if isinstance(part, ast.Call)]
+            for node in ast.walk(tree):
+                if isinstance(node, ast.Name) and node.id in generators:
                     self.assertIn(node, at_once, name)
 
     def test_views_and_zips_are_iterated_at_once(self):
@@ -228,10 +253,15 @@ class Language(unittest.TestCase):
     def test_loops_leave_what_they_iterate_over(self):
         for name, text in sources().items():
             for loop in ast.walk(ast.parse(text)):
-                if isinstance(loop, ast.For):
+                if isinstance(loop, ast.For) and not self.is_copied(loop.iter):
                     over = {node.id for node in ast.walk(loop.iter) if isinstance(node, ast.Name)}
                     for part in loop.body:
                         self.assertEqual(over & self.changed(part), set(), name)
+
+    def is_copied(self, node):
+        """whether a loop goes over list(..) of a plain name"""
+        is_list = isinstance(node, ast.Call) and isinstance(node.func, ast.Name) and node.func.id == "list"
+        return is_list and isinstance(node.args[0], ast.Name)
 
     def changed(self, tree):
         """the names whose values a statement changes or that it binds anew"""
@@ -240,7 +270,8 @@ class Language(unittest.TestCase):
             if isinstance(node, ast.Call) and isinstance(node.func, ast.Attribute) and node.func.attr in CHANGING:
                 found |= {part.id for part in ast.walk(node.func.value) if isinstance(part, ast.Name)}
             if isinstance(node, (ast.Subscript, ast.Name)) and isinstance(node.ctx, (ast.Store, ast.Del)):
-                found |= {part.id for part in ast.walk(node) if isinstance(part, ast.Name)}
+                base = node.value if isinstance(node, ast.Subscript) else node
+                found |= {part.id for part in ast.walk(base) if isinstance(part, ast.Name)}
         return found
 
 

@@ -34,6 +34,7 @@ from tests.helper import (
     told,
     variants,
 )
+from tests.plain import JUST_2000, OVER_2000, chains
 
 DEEDS = (("first", "go"), ("right", "on"), ("left", "over"), ("left", "on"))
 LOOP = made_dealing(
@@ -54,20 +55,6 @@ def plain_traced(dealing, standing, deeds):
             return found
         found.append(behind)
     return found
-
-
-def chains(lengths, starts):
-    """each party has a chain of rounds of its own; starts tells how far each of them is led by each RESULT of `first`"""
-    parties = ["abcdefgh"[at] for at in range(len(lengths))]
-    names = [[party + "xyzuvw"[at] for at in range(length)] + ["last"] for party, length in zip(parties, lengths)]
-    rounds = [("last", parties, "a", [])]
-    for party, row in zip(parties, names):
-        for name, there in zip(row, row[1:]):
-            rounds.append((name, [party], party, [("on", [(party, there)])]))
-    results = []
-    for word, start in zip(["k", "l", "m", "n", "o", "p"], starts):
-        results.append((word, [(party, row[at]) for party, row, at in zip(parties, names, start)]))
-    return made_dealing(parties, rounds + [("first", parties, "a", results)])
 
 
 def plain_ropes(dealing, deeds):
@@ -203,10 +190,7 @@ class Met(unittest.TestCase):
             self.assertLessEqual(set(least), set(found))
 
     def test_2000_are_told_and_2001_are_not(self):
-        # By the five RESULTS each party in its turn is led one step: so all but the one STANDING of no step is met.
-        ones = [tuple(int(at == other) for at in range(5)) for other in range(5)]
-        just = chains([4, 4, 4, 3, 3], ones)
-        over = chains([4, 4, 4, 3, 3], ones + [(0, 0, 0, 0, 0)])
+        just, over = JUST_2000, OVER_2000
         self.assertTrue(is_dealing(just) and is_dealing(over))
         found = met(just)
         self.assertEqual(len(found), 2000)
