@@ -3,7 +3,7 @@
 from partedmeet.dealings import all_deeds, results_of
 from partedmeet.errors import NoRule, NoSound, TooMany
 from partedmeet.headtrees import head_tree
-from partedmeet.rules import applied, cuts, drops, is_bare, is_rule
+from partedmeet.rules import applied, cuts, drops, fresh_couples, is_bare, is_rule
 from partedmeet.sound import fault
 
 MOST_RESULTS = 400
@@ -42,6 +42,42 @@ def rule_row(dealing):
         here = applied(here, row[-1])
         _check_size(here)
     return tuple(row)
+
+
+def reckoned(dealing, worths, merged, joined, looped):
+    """returns the worth of the one RESULT to which the RULE ROW of a SOUND DEALING leads
+
+    worths are those of all RESULTS. merged tells the worth of two with the same nexts, joined that of one and another
+    one behind it, looped that of one ahead of which another one perhaps leads all back, again and again. None is a
+    worth that is beyond number, and makes all that it is part of so.
+    """
+    here = dealing
+    found = {deed: worths[deed] for deed in worths}
+    for rule in rule_row(dealing):
+        _reckon(here, rule, found, merged, joined, looped)
+        here = applied(here, rule)
+    return found[all_deeds(here)[0]]
+
+
+def _reckon(dealing, rule, found, merged, joined, looped):
+    """changes the worths of the RESULTS of a DEALING to those behind a RULE"""
+    if rule[0] == "drop":
+        return
+    name, word = rule[1:3]
+    own = found.pop((name, word))
+    if rule[0] == "merge":
+        found[(name, word)] = _told_by(merged, own, found[(name, rule[3])])
+    elif rule[0] == "iterate":
+        for other in results_of(dealing, name):
+            if other != word:
+                found[(name, other)] = _told_by(looped, found[(name, other)], own)
+    else:
+        for fresh, other in fresh_couples(dealing, rule):
+            found[(name, fresh)] = _told_by(joined, own, found[(rule[3], other)])
+
+
+def _told_by(teller, one, other):
+    return None if one is None or other is None else teller(one, other)
 
 
 def _check_size(dealing):

@@ -58,6 +58,16 @@ class HeadTrees(unittest.TestCase):
         self.assertIsNone(told(self, tree_of, TWICE, ("h", "m", "n")))
         self.assertEqual(told(self, tree_of, TWICE, ("h", "m")), ((("h", "m"), "h", ()),))
 
+    def test_a_later_knot_without_a_head(self):
+        # The KNOT a, b has the HEAD a, and b in it is one of its own; x and y have none.
+        text = "parties p q r\nround first p p q r\nresult go p a q last r last\nresult on p x q x r last\n"
+        text = text + "round a p p\nresult k p b\nresult l p last\nround b p p\nresult k p a\nresult l p b\n"
+        text = text + "round x p p q\nresult k p last q y\nround y q q r\nresult k q x r last\nround last p p q r"
+        dealing = read_dealing(text)
+        self.assertIsNone(told(self, head_tree, dealing))
+        self.assertEqual(told(self, headless, dealing), ("x", "y"))
+        self.assertEqual(told(self, tree_of, dealing, ("a", "b")), ((("a", "b"), "a", ((("b",), "b", ()),)),))
+
     def test_loops_in_loops_to_the_bound(self):
         dealing = nested_loops(22)
         names = tuple(sorted(plain_lots(dealing)))

@@ -79,6 +79,19 @@ class Homeward(unittest.TestCase):
             start = tuple((party, "first") for party in dealing[0])
             self.assertEqual(told(self, home_run, dealing), home_deeds(dealing, start))
 
+    def test_no_round_is_done_more_often_than_its_distance(self):
+        most = 0
+        for dealing in many_dealings(120):
+            table = plain_steps(dealing)
+            lengths = {name: plain_length(table, name, "last") for name in plain_led(dealing)}
+            if None not in lengths.values():
+                for standing in plain_met(dealing):
+                    names = [name for name, _ in home_deeds(dealing, standing)]
+                    for name in names:
+                        self.assertLessEqual(names.count(name), lengths[name])
+                        most = max(most, names.count(name))
+        self.assertGreater(most, 0)
+
     def test_it_leads_to_the_end_where_a_dealing_is_sound(self):
         many = 0
         for dealing in many_dealings(200):

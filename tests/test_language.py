@@ -41,6 +41,15 @@ INTERFACE = {
     "walled(dealing,standing,party,thing)",
     "rules": "is_rule(dealing,thing) is_bare(dealing) rules_of(dealing) applied(dealing,rule)",
     "rulerows": "applied_row(dealing,row) is_rule_row(dealing,thing) rule_row(dealing)",
+    "grown": "is_growth(dealing,thing) is_grown_row(dealing,thing) grown(dealing,growth) grown_row(dealing,row) "
+    "backwards(dealing,rule) grow_row(dealing)",
+    "prices": "sum_of(prices,deeds) least_sum(dealing,prices) greatest_sum(dealing,prices) least_run(dealing,prices) "
+    "greatest_run(dealing,prices) sums_slowly(dealing,prices)",
+    "chances": "are_chances(dealing,thing) chance_of(chances,deeds) expected_sum(dealing,prices,chances) "
+    "expected_by_rules(dealing,prices,chances) visits(dealing,chances)",
+    "counted": "is_endless(dealing) many_ropes(dealing) all_ropes(dealing)",
+    "games": "forced(dealing,ours) can_force(dealing,ours) can_force_slowly(dealing,ours,is_foe) "
+    "is_plan(dealing,ours,thing) is_refusal(dealing,ours,thing) plan(dealing,ours) refusal(dealing,ours)",
 }
 LIBRARY = {"math": {"gcd", "lcm", "isqrt", "comb", "perm", "factorial"}, "heapq": {"heappush", "heappop", "heapify"}}
 BUILTINS = set(

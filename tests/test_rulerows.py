@@ -167,12 +167,14 @@ class RuleRows(unittest.TestCase):
     def test_parallel_choices_do_not_grow(self):
         # Each of six parties goes to one of three rounds of its own: together they do so in 3 to the power of 6 ways.
         parties = "abcdef"
-        rounds = [("first", parties, "a", [("on", [(party, party + "x") for party in parties])]), ("last", parties, "a", [])]
+        start = [("on", [(party, "r" + party) for party in parties])]
+        rounds = [("first", list(parties), "a", start), ("last", list(parties), "a", [])]
         for party in parties:
-            rounds.append((party + "x", [party], party, [(word, [(party, party + word)]) for word in "klm"]))
+            rounds.append(("r" + party, [party], party, [(word, [(party, "s" + party + word)]) for word in "klm"]))
             for word in "klm":
-                rounds.append((party + word, [party], party, [("on", [(party, "last")]), ("up", [(party, "last")])]))
-        dealing = made_dealing(list(parties), [(name, list(lot), who, results) for name, lot, who, results in rounds])
+                results = [("on", [(party, "last")]), ("up", [(party, "last")])]
+                rounds.append(("s" + party + word, [party], party, results))
+        dealing = made_dealing(list(parties), rounds)
         self.assertEqual(many_results(dealing), 55)
         self.assertEqual(self.check_row(dealing, told(self, rule_row, dealing)), 55)
 
