@@ -41,25 +41,27 @@ def dates(dealing):
 
 def date_fault(dealing):
     """returns the least (round, word, one, other) whose DATE is not SINGLE, None if there is none"""
-    found = dates(dealing)
-    return min([key for key in found if found[key] is None], default=None)
+    for key, side, facing in partings(dealing):
+        if _common(side[1], facing[1]) is None:
+            return key
+    return None
 
 
 def partings(dealing):
-    """returns the list of all ((round, word, one, other), (ahead, meetings), (ahead, meetings)), ascending
+    """tells all ((round, word, one, other), (ahead, meetings), (ahead, meetings)), ascending
 
     Of LED rounds, with one less than other; the (ahead, meetings) are those of one with other, and of other with one.
     """
     names = led(dealing)
-    table = _parted_table(dealing)
-    found = []
+    roads = {}
+    known = {}
     for name, word in all_deeds(dealing):
         places = nexts_of(dealing, name, word) if name in names else {}
         for one, other in _couples(places):
             if one < other:
-                sides = (table[(one, other, places[one])], table[(other, one, places[other])])
-                found.append(((name, word, one, other), *sides))
-    return found
+                side = _known_parted(dealing, roads, known, (one, other, places[one]))
+                facing = _known_parted(dealing, roads, known, (other, one, places[other]))
+                yield ((name, word, one, other), side, facing)
 
 
 def _cut_roads(dealing, one, other):
@@ -81,15 +83,16 @@ def _parted(roads, shared, start):
     return (between, tuple([there for there in names if there in shared]))
 
 
-def _parted_table(dealing):
-    """returns the dict from each (one, other, round), the round wanting one, to the (ahead, meetings) from there on"""
-    found = {}
-    for one, other in _couples(dealing[0]):
-        roads = _cut_roads(dealing, one, other)
-        shared = rounds_with(dealing, other)
-        for start in roads:
-            found[(one, other, start)] = _parted(roads, shared, start)
-    return found
+def _known_parted(dealing, roads, known, key):
+    """returns the (ahead, meetings) of (one, other, round) from this round of one on; puts it to what is known"""
+    # Many RESULTS lead to the same rounds, and where a DATE is not SINGLE those behind it are not asked for.
+    one, other, start = key
+    if (one, other) not in roads:
+        roads[(one, other)] = (_cut_roads(dealing, one, other), rounds_with(dealing, other))
+    if key not in known:
+        table, shared = roads[(one, other)]
+        known[key] = _parted(table, shared, start)
+    return known[key]
 
 
 def _couples(parties):

@@ -50,6 +50,14 @@ INTERFACE = {
     "counted": "is_endless(dealing) many_ropes(dealing) all_ropes(dealing)",
     "games": "forced(dealing,ours) can_force(dealing,ours) can_force_slowly(dealing,ours,is_foe) "
     "is_plan(dealing,ours,thing) is_refusal(dealing,ours,thing) plan(dealing,ours) refusal(dealing,ours)",
+    "together": "seat_table(dealing) all_together(dealing) open_together(dealing,one,other) "
+    "open_together_slowly(dealing,one,other) together_run(dealing,one,other)",
+    "sheets": "is_use(dealing,thing) is_race_run(dealing,use,race,thing) is_unwritten_run(dealing,use,sheet,thing) "
+    "races(dealing,use) sources(dealing,use,deeds) race_run(dealing,race) unwritten_run(dealing,use,sheet)",
+    "leastforms": "alike_classes(dealing) least_form(dealing) is_least(dealing) are_alike(one,other)",
+    "parting": "is_likeness(one,other,thing) is_parting(one,other,thing) is_trace(dealing,thing) trace_of(dealing,deeds) "
+    "likeness(one,other) parting(one,other)",
+    "nested": "put_in(dealing,name,word,inner,names) followed(dealing,party,name) without_party(dealing,party)",
 }
 LIBRARY = {"math": {"gcd", "lcm", "isqrt", "comb", "perm", "factorial"}, "heapq": {"heappush", "heappop", "heapify"}}
 BUILTINS = set(
@@ -141,6 +149,7 @@ class Language(unittest.TestCase):
                         tree = ast.parse(sources()[module])
                         kinds = (ast.FunctionDef, ast.ClassDef)
                         defined = {part.name for part in tree.body if isinstance(part, kinds)}
+                        defined |= {part.targets[0].id for part in tree.body if isinstance(part, ast.Assign)}
                         self.assertLessEqual(names, defined, name)
                         self.assertEqual([part for part in names if part.startswith("_")], [])
 
