@@ -58,8 +58,21 @@ INTERFACE = {
     "parting": "is_likeness(one,other,thing) is_parting(one,other,thing) is_trace(dealing,thing) trace_of(dealing,deeds) "
     "likeness(one,other) parting(one,other)",
     "nested": "put_in(dealing,name,word,inner,names) followed(dealing,party,name) without_party(dealing,party)",
+    "mending": "struck(dealing,deeds) is_mending(dealing,thing) least_mending(dealing)",
+    "books": "book_of(dealing,party) books(dealing) heard(member,answer) joined(books) letter(member,word) "
+    "member_at_first(dealing,party) place(member) words_at(member)",
+    "house": "House(dealing)",
+    "logs": "reopened(dealing,text) whole_lines(text)",
+    "kept": "Kept(dealing)",
+    "desk": "Desk(dealing)",
 }
-LIBRARY = {"math": {"gcd", "lcm", "isqrt", "comb", "perm", "factorial"}, "heapq": {"heappush", "heappop", "heapify"}}
+# What stands in the body of each class itself.
+CLASSES = {
+    "House": "ask(party,number,word) chosen() counts() deeds() here() log() standing() twin()",
+    "Kept": "dealing() edit(thing) undo() redo() would(thing) edits() certificate() rows() twin() __eq__(other)",
+    "Desk": "execute(line) kept() deeds() twin() __eq__(other)",
+}
+LIBRARY = {"itertools": {"combinations"}, "math": {"gcd", "lcm", "isqrt", "comb", "perm", "factorial"}, "heapq": {"heappush", "heappop", "heapify"}}
 BUILTINS = set(
     "len range enumerate zip min max sum abs sorted reversed int str bool list tuple dict set isinstance ord repr any "
     "all divmod ValueError KeyError".split()
@@ -114,6 +127,17 @@ class Interface(unittest.TestCase):
                 found = getattr(module, function)
                 self.assertEqual(found.__module__, "partedmeet." + name)
                 self.assertEqual(",".join(inspect.signature(found).parameters), arguments, signature)
+
+    def test_methods(self):
+        for name in INTERFACE:
+            module = importlib.import_module("partedmeet." + name)
+            for listed in [part for part in CLASSES if part.lower() == name]:
+                found = getattr(module, listed)
+                self.assertEqual([found.__module__, found.__bases__], ["partedmeet." + name, (object,)])
+                for signature in CLASSES[listed].split():
+                    method, arguments = signature.rstrip(")").split("(")
+                    given = ",".join(inspect.signature(vars(found)[method]).parameters)
+                    self.assertEqual(given, ",".join(["self"] + [arguments] * bool(arguments)), signature)
 
     def test_files(self):
         found = {path.name for path in FOLDER.iterdir() if path.name != "__pycache__"}
@@ -174,7 +198,7 @@ class Language(unittest.TestCase):
         for name, text in sources().items():
             for node in ast.parse(text).body:
                 if isinstance(node, ast.Assign):
-                    self.assertIsInstance(ast.literal_eval(node.value), (int, str, tuple))
+                    self.assertIsInstance(ast.literal_eval(node.value), (int, str, tuple, dict))
                 elif isinstance(node, ast.Expr):
                     self.assertIsInstance(node.value.value, str)
                 else:
@@ -186,9 +210,11 @@ class Language(unittest.TestCase):
             tree = ast.parse(text)
             outer = {part.name for node in tree.body if isinstance(node, ast.ImportFrom) for part in node.names}
             outer |= {node.name for node in tree.body if isinstance(node, (ast.ClassDef, ast.FunctionDef))}
+            # The interface itself calls the parameter of joined so.
+            outer -= {"books"} if name == "books" else set()
             for bound, node in bound_names(tree):
                 self.assertNotIn(bound, barred | BARRED, name)
-                self.assertTrue(bound == "__init__" or not bound.startswith("__"), bound)
+                self.assertTrue(bound in ("__init__", "__eq__") or not bound.startswith("__"), bound)
                 if isinstance(node, (ast.Name, ast.arg)):
                     self.assertNotIn(bound, outer, name)
             for node in ast.walk(tree):
@@ -208,6 +234,10 @@ class Language(unittest.TestCase):
 
     def test_statements_and_methods(self):
         own = {"__init__"}
+        for text in sources().values():
+            for node in ast.walk(ast.parse(text)):
+                if isinstance(node, ast.ClassDef):
+                    own |= {part.name for part in node.body if isinstance(part, ast.FunctionDef)}
         for name, text in sources().items():
             for node in ast.walk(ast.parse(text)):
                 if isinstance(node, ast.stmt):

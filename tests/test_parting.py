@@ -7,7 +7,7 @@ from partedmeet.dealings import made_dealing, with_result
 from partedmeet.errors import TooMany
 from partedmeet.leastforms import are_alike, least_form
 from partedmeet.parting import is_likeness, is_parting, is_trace, likeness, parting, trace_of
-from tests.helper import ALONE, BOTH, OTHER_KINDS, PLAIN, SALE, many_dealings, plain_is_sound, plain_lots, plain_nexts
+from tests.helper import ALONE, BOTH, OTHER_KINDS, PLAIN, many_dealings, plain_is_sound, plain_lots, plain_nexts
 from tests.helper import raised, told, variants
 from tests.more import LOOPS, are_same, as_dice, faced, fan, is_key, plain_are_traced, plain_parting, plain_run, some_run
 from tests.plain import JUST_2000, OVER_2000, great_dealing

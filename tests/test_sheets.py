@@ -3,7 +3,7 @@
 import itertools
 import unittest
 
-from partedmeet.dealings import all_deeds, made_dealing
+from partedmeet.dealings import all_deeds
 from partedmeet.dealingtexts import read_dealing
 from partedmeet.errors import TooMany
 from partedmeet.runs import same_rope
