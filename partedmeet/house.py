@@ -80,10 +80,9 @@ class House:
         for party, name in self._standing:
             if name != "last" and not self._present[party]:
                 found.append(("here", party))
-            elif self._present[party] and self._is_choosing(party, name):
+            elif self._is_choosing(party, name):
                 found.extend([("choose", party, word) for word in words_of(self._dealing, name)])
-        ready = [name for name in self.chosen() if not self._missing_at(name)]
-        return found + [("done", name) for name in ready]
+        return found + [("done", at) for at in self.chosen() if not self._missing_at(at)]
 
     def write(self, words):
         """does what one of the possible lines says, and puts it into the log"""

@@ -19,10 +19,9 @@ def is_use(dealing, thing):
 def races(dealing, use):
     """returns the ascending tuple of all RACES"""
     couples = {couple: True for couple in all_together(dealing)}
-    deeds = sorted(use)
     found = []
-    for one in deeds:
-        for other in deeds:
+    for one in use:
+        for other in use:
             # Of a couple the less round comes first: so one is less than other.
             if (one[0], other[0]) in couples:
                 found.extend([(sheet, one, other) for sheet in _raced_for(use, one, other)])

@@ -73,8 +73,6 @@ def _couple(one, other):
 
 
 def _are_seated(dealing, table, one, other):
-    # `last` wants all parties: so it has one in common with each other round.
-    lot = lot_of(dealing, other)
-    if any([party in lot for party in lot_of(dealing, one)]):
-        return False
-    return all([_couple((party, one), (place, other)) in table for party in lot_of(dealing, one) for place in lot])
+    # The TABLE couples unlike parties alone: so rounds that want a common one are never told, nor is `last`.
+    seats = [(party, one) for party in lot_of(dealing, one)]
+    return all([_couple(seat, (party, other)) in table for seat in seats for party in lot_of(dealing, other)])

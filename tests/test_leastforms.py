@@ -132,6 +132,13 @@ class LeastForms(unittest.TestCase):
         dealing = (LOT, (first, END, left, ("y", LOT, "p", (("on", (("p", "z"), ("q", "last"))),)), alone))
         self.assertEqual(len(told(self, alike_classes, dealing)), 5)
 
+    def test_lots_of_as_many_others_are_unlike(self):
+        dealing = read_dealing(
+            "parties a b c\nround first a a b c\nresult k a x b x c last\nresult l a y b last c y\nround x a a b\n"
+            "result on a last b last\nround y a a c\nresult on a last c last\nround last a a b c"
+        )
+        self.assertIs(self.check(dealing), True)
+
     def test_first_may_be_alike_another_one(self):
         dealing = (LOT, (("first", LOT, "p", (("go", TO["x"]), ("no", TO["last"]))), END, ("x", LOT, "p", (("go", TO["first"]), ("no", TO["last"])))))
         self.assertEqual(told(self, alike_classes, dealing), (("first", "x"), ("last",)))

@@ -9,7 +9,7 @@ from partedmeet.leastforms import are_alike, least_form
 from partedmeet.parting import is_likeness, is_parting, is_trace, likeness, parting, trace_of
 from tests.helper import ALONE, BOTH, OTHER_KINDS, PLAIN, many_dealings, plain_is_sound, plain_lots, plain_nexts
 from tests.helper import raised, told, variants
-from tests.more import LOOPS, are_same, as_dice, faced, fan, is_key, plain_are_traced, plain_parting, plain_run, some_run
+from tests.more import LOOPS, are_same, as_dice, faced, fan, is_key, plain_are_traced, plain_parting, plain_run, row_of, some_run, swapped
 from tests.plain import JUST_2000, OVER_2000, great_dealing
 from tests.test_leastforms import GO, LONG, LOT, SHORT, TO
 
@@ -52,7 +52,8 @@ def cases(many):
     for seed, dealing in enumerate(many_dealings(many)):
         other = faced(dealing, as_dice(seed), seed // 2) if plain_is_sound(dealing) else None
         if other is not None:
-            found.append((dealing, other))
+            # Half of them have other names for their rounds than the one that they face.
+            found.append((dealing, swapped(other, as_dice(seed)) if seed % 2 else other))
     return found
 
 
@@ -186,6 +187,13 @@ class Parting(unittest.TestCase):
         self.assertIsNone(told(self, parting, ALONE, ALONE))
         self.assertIn(told(self, parting, PLAIN, with_result(PLAIN, "first", "x", {"a": "last", "b": "last"})), ((1, (("first", "x"),)),))
 
+    def test_the_run_is_told_by_the_names_of_its_own_dealing(self):
+        one = with_result(row_of(["k", "l", "m", "n", "o"]), "o", "off", {"p": "last"})
+        other = row_of(["v", "w", "x", "y", "z"])
+        deeds = tuple((name, "on") for name in ("first", "k", "l", "m", "n")) + (("o", "off"),)
+        self.assertEqual(told(self, parting, one, other), (0, deeds))
+        self.assertEqual(told(self, parting, other, one), (1, deeds))
+
     def test_which_are_partings(self):
         for thing, wanted in (
             ((0, AGAIN), True), ((0, AGAIN[:3]), True), ((0, AGAIN[:2]), False), ((1, AGAIN[:2]), False),
@@ -195,7 +203,8 @@ class Parting(unittest.TestCase):
         ):
             self.assertIs(told(self, is_parting, LONG, ONCE, thing), wanted, thing)
         self.assertIs(told(self, is_parting, ONCE, LONG, (1, AGAIN)), True)
-        self.assertIs(told(self, is_parting, ONCE, LONG, (True, AGAIN)), False)
+        for index in (True, 0, 2, -1, None, "1"):
+            self.assertIs(told(self, is_parting, ONCE, LONG, (index, AGAIN)), False)
         self.assertIs(told(self, is_parting, LONG, SHORT, (0, AGAIN)), False)
 
     def test_any_values(self):

@@ -271,6 +271,17 @@ class Unwritten(unittest.TestCase):
         self.assertIsNone(told(self, unwritten_run, BOTH, {over: (("a",), ()), go: ((), ("a",))}, "a"))
         self.assertEqual(told(self, unwritten_run, SALE, {("deal", "off"): (("a",), ())}, "a")[-1], ("deal", "off"))
 
+    def test_which_runs_end_so(self):
+        go, on, over, right = ("first", "go"), ("left", "on"), ("left", "over"), ("right", "on")
+        use = {over: (("a",), ()), on: ((), ("a",)), right: (("a",), ("a",))}
+        for deeds, wanted in (
+            ((), False), ((go,), False), ((go, over), True), ((go, on), False), ((go, right), True), ((go, over, on), False),
+            ((go, over, right), True), ((go, on, right), False), ((go, right, over), False), ((go, over, over, on, right), False),
+            ((go, over, over, over), True), ((over,), False), ((go, go), False),
+        ):
+            self.assertIs(told(self, is_unwritten_run, BOTH, use, "a", deeds), wanted, deeds)
+            self.assertIs(told(self, is_unwritten_run, BOTH, use, "b", deeds), False)
+
     def test_a_longer_one_around_who_writes(self):
         dealing = read_dealing(
             "parties a\nround first a a\nresult k a x\nresult l a y\nround x a a\nresult on a z\nround y a a\nresult on a x\n"
